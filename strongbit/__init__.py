@@ -1,0 +1,1 @@
+"""Strongbit: ends of frames on a shared line, for any number of stations."""
