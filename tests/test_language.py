@@ -123,6 +123,78 @@ class TestLanguage(unittest.TestCase):
                         if isinstance(operator, (ast.Is, ast.IsNot)):
                             self.assertIn(ast.unparse(right), ("None", "True", "False"), place)
 
+    def test_no_name_is_a_method_here_and_an_attribute_there(self):
+        methods, properties, attributes = set(), set(), set()
+        for name, tree in trees():
+            for node in ast.walk(tree):
+                if isinstance(node, ast.ClassDef):
+                    for method in node.body:
+                        if isinstance(method, ast.FunctionDef):
+                            decorators = [ast.unparse(decorator) for decorator in method.decorator_list]
+                            (properties if "property" in decorators else methods).add(method.name)
+                if isinstance(node, ast.Attribute) and isinstance(node.ctx, ast.Store):
+                    attributes.add(node.attr)
+        self.assertEqual(methods & attributes, set())
+        self.assertEqual(properties & attributes, set())
+        self.assertEqual(properties & methods, set())
+
+    def test_no_local_name_is_a_class_or_an_import(self):
+        for name, tree in trees():
+            taken = {node.name for node in tree.body if isinstance(node, ast.ClassDef)}
+            for node in tree.body:
+                if isinstance(node, ast.ImportFrom):
+                    taken.update(alias.asname or alias.name for alias in node.names)
+            for function in [node for node in ast.walk(tree) if isinstance(node, (ast.FunctionDef, ast.Lambda))]:
+                for node in ast.walk(function):
+                    if isinstance(node, (ast.arg, ast.Name)):
+                        for bound in names_bound(node):
+                            self.assertNotIn(bound, taken, f"{name}:{node.lineno}")
+
+    def test_imports_have_no_circle_and_come_from_where_names_are_defined(self):
+        defined, needs = {}, {}
+        for name, tree in trees():
+            module = "strongbit." + name[:-len(".py")]
+            defined[module] = {node.name for node in tree.body if isinstance(node, (ast.FunctionDef, ast.ClassDef))}
+            defined[module].update(target.id for node in tree.body if isinstance(node, ast.Assign)
+                                   for target in node.targets)
+            needs[module] = [node for node in tree.body if isinstance(node, ast.ImportFrom)]
+        for module, imports in needs.items():
+            for node in imports:
+                self.assertLessEqual({alias.name for alias in node.names}, defined[node.module], module)
+        left = {module: {node.module for node in imports} for module, imports in needs.items()}
+        while left:
+            free = [module for module, others in left.items() if not others & set(left)]
+            self.assertTrue(free, left)
+            for module in free:
+                del left[module]
+
+    def test_generators_and_lazy_values(self):
+        taking = ("list", "tuple", "dict", "sorted", "sum", "any", "all", "enumerate", "zip", "min", "max", "reversed")
+        for name, tree in trees():
+            used = set()
+            for node in ast.walk(tree):
+                self.assertNotIsInstance(node, (ast.GeneratorExp, ast.Yield, ast.YieldFrom), f"{name}")
+                if isinstance(node, (ast.For, ast.comprehension)):
+                    used.add(node.iter)
+                if isinstance(node, ast.Call) and isinstance(node.func, ast.Name) and node.func.id in taking:
+                    used.update(node.args)
+            for node in ast.walk(tree):
+                if isinstance(node, ast.Call) and node not in used:
+                    lazy = isinstance(node.func, ast.Name) and node.func.id in ("range", "zip", "enumerate", "reversed")
+                    view = isinstance(node.func, ast.Attribute) and node.func.attr in ("items", "keys", "values")
+                    self.assertFalse(lazy or view, f"{name}:{node.lineno}")
+
+    def test_sets_stand_where_they_may(self):
+        for name, tree in trees():
+            allowed = set()
+            for node in ast.walk(tree):
+                if isinstance(node, ast.Call) and isinstance(node.func, ast.Name) and node.func.id in ("sorted", "len"):
+                    allowed.update(node.args)
+            for node in ast.walk(tree):
+                called = isinstance(node, ast.Call) and isinstance(node.func, ast.Name) and node.func.id == "set"
+                if called or isinstance(node, (ast.Set, ast.SetComp)):
+                    self.assertIn(node, allowed, f"{name}:{node.lineno}")
+
 
 if __name__ == "__main__":
     unittest.main()
