@@ -160,6 +160,10 @@ class TestSendingObjects(unittest.TestCase):
         same_words = End([(1, "taken", "taken"), (0, "lost", "lost")], [(1, "again", "done")])
         self.assertEqual(sending(same_words, 2, wrong=[(1, 1)]).words, sending(same_words, 2).words)
         self.assertNotEqual(sending(same_words, 2, wrong=[(1, 1)]), sending(same_words, 2))
+        other_word = End(tiny().hearer, [(1, "again", "again")])
+        self.assertEqual(sending(other_word, 2).line, one.line)
+        self.assertEqual(sending(other_word, 2).heard(0), one.heard(0))
+        self.assertNotEqual(sending(other_word, 2), one)
         strong = End([(0, "taken", "taken"), (0, "lost", "lost")], [(1, "done", "done")])
         weak = End([(1, "taken", "taken"), (0, "lost", "lost")], [(1, "done", "done")])
         lines = sending(strong, 1, wrong=[(1, 0), (1, 1)]), sending(weak, 1)
@@ -231,6 +235,10 @@ class TestImpossibleFaults(unittest.TestCase):
         self.check((1, 3), tiny(), 2, silent=[(1, 3)])
         self.check((1, 10 ** 39), tiny(), 2, silent=[(1, 10 ** 39)])
         self.check((0, 41), tiny(), 40, wrong=[(0, 41), (1, 40), (0, 40)])
+
+    def test_bits_ahead_of_the_body(self):
+        self.check((-1, 1), tiny(), 2, wrong=[(1, 1), (-1, 1)])
+        self.check((-1, 0), tiny(), 2, silent=[(-1, 0)])
 
     def test_behind_the_end(self):
         for bit in (2, 3, 5000, 5001, 10 ** 39):
