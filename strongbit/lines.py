@@ -9,6 +9,8 @@ from strongbit.errors import (BadDeed, BadFault, BadFrame, Endless, NoHearer, No
 from strongbit.machines import is_number
 
 MOST_FRAME = 10 ** 6
+FEWEST_STATIONS = 2
+MOST_STATIONS = 20
 
 
 class Kept:

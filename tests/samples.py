@@ -24,6 +24,17 @@ def tiny():
     return End(TINY_HEARER, TINY_SENDER)
 
 
+def rings(sender_size, hearer_size, tail):
+    """An end with rings of these sizes, and so many bits ahead of the ring of the sender.
+
+    If the sizes have no common divisor, each row of one ring meets each one of the other.
+    """
+    hearer = [(1, 0, 2), (0, "lost", "lost")]
+    hearer += [(1, 0, 3 + index) for index in range(hearer_size - 2)] + [(1, 0, 0)]
+    sender = [(1, 0, index + 1) for index in range(tail + sender_size - 1)] + [(1, 0, tail)]
+    return End(hearer, sender)
+
+
 def pad(rows, many, row):
     """These rows, filled up to so many with a further row."""
     return rows + [row] * (many - len(rows))

@@ -27,6 +27,11 @@ DOUBLE = set(
     "__init__ __eq__ __repr__ __str__ __len__ __enter__ __exit__ __call__ __iter__ __lt__ __le__ __gt__ __ge__ __ne__ "
     "__contains__ __bool__ __getitem__ __setitem__".split())
 
+BUILTIN_METHODS = (
+    "append clear copy count endswith extend find get index insert isalnum isalpha isdigit islower isspace isupper "
+    "items join keys ljust lower lstrip partition pop remove replace reverse rfind rjust rpartition rsplit rstrip "
+    "setdefault split splitlines startswith strip update upper values zfill bit_length isascii").split()
+
 BARRED_NODES = (ast.Global, ast.AsyncFunctionDef, ast.AsyncFor, ast.AsyncWith, ast.Await, ast.Div)
 
 
@@ -137,6 +142,21 @@ class TestLanguage(unittest.TestCase):
         self.assertEqual(methods & attributes, set())
         self.assertEqual(properties & attributes, set())
         self.assertEqual(properties & methods, set())
+
+    def test_attributes_that_are_read_are_there(self):
+        known, read = set(BUILTIN_METHODS), []
+        for name, tree in trees():
+            for node in ast.walk(tree):
+                if isinstance(node, ast.ClassDef):
+                    known.update(method.name for method in node.body if isinstance(method, ast.FunctionDef))
+                    known.update(target.id for value in node.body if isinstance(value, ast.Assign)
+                                 for target in value.targets)
+                if isinstance(node, ast.Attribute) and isinstance(node.ctx, ast.Store):
+                    known.add(node.attr)
+                if isinstance(node, ast.Attribute) and isinstance(node.ctx, ast.Load):
+                    read.append((node.attr, f"{name}:{node.lineno}"))
+        for attribute, place in read:
+            self.assertIn(attribute, known, place)
 
     def test_no_local_name_is_a_class_or_an_import(self):
         for name, tree in trees():

@@ -12,7 +12,7 @@ from strongbit.families import counted_end, standard_end, voting_end
 from strongbit.standings import is_over, is_standing, moves, standings, starts
 
 from plain import plain_standings
-from samples import ODD_VALUES, random_end, random_ends, tiny
+from samples import ODD_VALUES, random_end, random_ends, rings, tiny
 
 # Rows that differ in what they put and in what follows, and that do not end at once.
 LONGER = End([(1, 2, 3), (0, 1, "lost"), (0, 3, "taken"), (1, "taken", "lost")], [(1, 0, 1), (0, "again", "done")])
@@ -250,17 +250,6 @@ class TestStandings(unittest.TestCase):
         with self.assertRaises(TooMany) as caught:
             standings(rings(51, 98, 3), 0, silent=False)
         self.assertEqual(caught.exception.limit, 5000)
-
-
-def rings(sender_size, hearer_size, tail):
-    """An end with rings of these sizes, and so many bits ahead of the ring of the sender.
-
-    If the sizes have no common divisor, each row of one ring meets each one of the other.
-    """
-    hearer = [(1, 0, 2), (0, "lost", "lost")]
-    hearer += [(1, 0, 3 + index) for index in range(hearer_size - 2)] + [(1, 0, 0)]
-    sender = [(1, 0, index + 1) for index in range(tail + sender_size - 1)] + [(1, 0, tail)]
-    return End(hearer, sender)
 
 
 class TestIsStanding(unittest.TestCase):
