@@ -15,8 +15,7 @@ def choices_of(many, few):
 
 def crowd_number(standing, hearers):
     """How many the crowd is, with so many hearers of which none is silent."""
-    left, sender, crowd, many, hit = standing
-    return 0 if crowd is None else hearers - len(hit)
+    return hearers - len(standing[4])
 
 
 def ways_to(reach, heights):

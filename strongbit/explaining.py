@@ -78,7 +78,7 @@ def explained(end, logs):
     kept = [None if log is None else tuple(log) for log in logs]
     search = Search(Hearing(end, kept))
     for places in beginnings(end, kept):
-        search.begin(places, tuple([station for station, row in enumerate(places) if station > 0 and row == 1]))
+        search.begin(places, tuple([station for station, row in enumerate(places) if row == 1]))
     last = search.cheapest_end()
     if last is None:
         return None

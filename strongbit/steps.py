@@ -83,8 +83,7 @@ def behind_wrong(end, standing, wrongs):
     sender_mark, hit_marks, of_crowd = wrongs
     bit = line_bit(end, sender, crowd, hit)
     hits = [behind_bit(end.hearer, place, bit ^ mark) for place, mark in zip(hit, hit_marks)]
-    if of_crowd > 0:
-        hits = hits + [behind_bit(end.hearer, crowd, 1 - bit)] * of_crowd
+    hits = hits + [behind_bit(end.hearer, crowd, 1 - bit)] * of_crowd
     return written_standing(left - sender_mark - sum(hit_marks) - of_crowd,
                             behind_bit(end.sender, sender, bit ^ sender_mark),
                             behind_bit(end.hearer, crowd, bit), many - of_crowd, hits)

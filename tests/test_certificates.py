@@ -429,6 +429,8 @@ class TestShows(Shown):
         told = certificate(tiny(), "all", 1)
         self.assertIs(shows(thing=told, wrong=1, promise="all", end=tiny(), silent=True), True)
         self.assertIs(shows(tiny(), "all", 1, certificate(tiny(), "all", 1, silent=False)), True)
+        self.assertIs(shows(VOTES, "all", 1, certificate(VOTES, "all", 1, silent=False)), False)
+        self.assertIs(shows(VOTES, "all", 1, certificate(VOTES, "all", 1)), True)
 
 
 if __name__ == "__main__":

@@ -177,13 +177,15 @@ class TestExplained(unittest.TestCase):
         self.assertIsNone(explained(standard_end(), [one.heard(0)[:-1], None]))
 
     def test_faults_are_possible_up_to_bit_5000_only(self):
-        # The sender puts 0 at each 99th bit. If the hearer is in one row of its ring then, it puts 0 itself at the next
-        # bit, at which the sender goes to rest, and the hearer does if it hears that bit wrongly.
-        self.assertEqual(explained(meeting(2), [None, None]), (1, ((4951, 1),)))
-        number, wrong = explained(meeting(4), [None, None])
+        # Both rings meet at bit 4998, and the hearer waits from bit 5000 on.
+        self.assertEqual(explained(meeting(0, 50), [None, None]), (1, ((5000, 1),)))
+        # Both rings meet at bit 4999, so the hearer waits from bit 5001 on unless it hears a wrong bit before.
+        number, wrong = explained(meeting(1, 51), [None, None])
         self.assertEqual(number, 2)
-        self.assertEqual(len(sending(meeting(4), 1, wrong=wrong)), wrong[-1][0])
-        self.assertEqual(len(sending(meeting(2), 1, wrong=[(4951, 1)])), 4951)
+        self.assertLess(wrong[0][0], 100)
+        self.assertEqual(len(sending(meeting(1, 51), 1, wrong=wrong)), wrong[1][0])
+        with self.assertRaises(BadFault):
+            sending(meeting(1, 51), 1, wrong=[(5001, 1)])
 
     def test_lists_and_tuples(self):
         logs = [[1], None, [0]]
@@ -192,18 +194,19 @@ class TestExplained(unittest.TestCase):
         self.assertEqual(explained(logs=((1,), None, (0,)), end=tiny()), (1, ((1, 2),)))
 
 
-def meeting(row):
+def meeting(tail, row):
     """An end whose hearer leaves its ring of 97 rows only at this one of them, if it hears 0 there.
 
-    The sender puts 0 at the bits 99, 198 and so on.
+    The sender has a ring of 98 rows behind so many others, and puts 0 at the last one of its ring. A hearer that left
+    its ring puts 0 once, by which the sender goes to rest, and then waits for a wrong bit.
     """
     ring = [0] + list(range(2, 98))
-    hearer = [(1, 1, 1)] * 99
+    hearer = [(1, 1, 1)] * 100
     for index, place in enumerate(ring):
         behind = ring[(index + 1) % 97]
         hearer[place] = (1, 98 if index == row else behind, behind)
-    hearer[98] = (0, 1, "lost")
-    return End(hearer, [(1, "again", index + 1) for index in range(98)] + [(0, 0, 0)])
+    hearer[98:] = [(0, 99, 99), (1, "lost", 99)]
+    return End(hearer, [(1, "again", index + 1) for index in range(tail + 97)] + [(0, tail, tail)])
 
 
 class TestIsLog(unittest.TestCase):

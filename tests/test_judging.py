@@ -209,6 +209,8 @@ class TestHistories(unittest.TestCase):
         self.assertEqual(judge(wrong=1, promise="all", end=tiny(), silent=False, hearers=2),
                          judge(tiny(), "all", 1, silent=False, hearers=2))
         self.assertEqual(judge(tiny(), "all", 1), judge(tiny(), "all", 1, silent=True, hearers=None))
+        self.assertIsNotNone(judge(WAITING, "rest", 0))
+        self.assertIsNone(judge(WAITING, "rest", 0, silent=False))
 
 
 class TestWeakness(unittest.TestCase):
@@ -234,6 +236,8 @@ class TestWeakness(unittest.TestCase):
         self.assertIsNone(weakness(RING, "rest", most=0))
         self.assertEqual(weakness(WAITING, "rest", most=0), 0)
         self.assertIsNone(weakness(tiny(), "rest"))
+        self.assertEqual(weakness(voting_end(5, needed=3), "all", silent=False), 3)
+        self.assertIsNone(weakness(voting_end(6, needed=4), "all", silent=False))
         self.assertEqual(weakness(tiny(), "all", silent=True, hearers=None, most=3), 1)
 
     def test_voting_ends_hold_as_long_as_they_should(self):
@@ -255,6 +259,7 @@ class TestWeakness(unittest.TestCase):
 
     def test_arguments(self):
         self.assertEqual(weakness(promise="once", end=tiny(), most=3, hearers=1, silent=False), 1)
+        self.assertEqual([weakness(WAITING, "rest"), weakness(WAITING, "rest", silent=False)], [0, 1])
 
 
 class TestErrors(unittest.TestCase):
