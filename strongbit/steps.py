@@ -20,7 +20,7 @@ def marks(places, most):
     found = [()]
     for place in places:
         longer = []
-        for ahead in found:
+        for ahead in list(found):
             longer.append((*ahead, 0))
             if is_number(place) and sum(ahead) < most:
                 longer.append((*ahead, 1))

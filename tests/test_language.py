@@ -32,6 +32,8 @@ BUILTIN_METHODS = (
     "items join keys ljust lower lstrip partition pop remove replace reverse rfind rjust rpartition rsplit rstrip "
     "setdefault split splitlines startswith strip update upper values zfill bit_length isascii").split()
 
+CHANGING_METHODS = "append clear extend insert pop remove reverse setdefault sort update add discard".split()
+
 BARRED_NODES = (ast.Global, ast.AsyncFunctionDef, ast.AsyncFor, ast.AsyncWith, ast.Await, ast.Div)
 
 
@@ -56,6 +58,82 @@ def names_bound(node):
     if isinstance(node, ast.Attribute) and isinstance(node.ctx, ast.Store):
         return [node.attr]
     return []
+
+
+def given(node):
+    """The texts of the names, fields and items whose very value an expression may give; none if it makes a new one."""
+    if isinstance(node, (ast.Name, ast.Attribute, ast.Subscript)):
+        return [ast.unparse(node)]
+    if isinstance(node, ast.IfExp):
+        return given(node.body) + given(node.orelse)
+    if isinstance(node, ast.BoolOp):
+        return [text for value in node.values for text in given(value)]
+    if isinstance(node, ast.NamedExpr):
+        return given(node.target) + given(node.value)
+    return []
+
+
+def walked(node):
+    """The texts of what a loop walks that has this expression as its head."""
+    if not isinstance(node, ast.Call):
+        return given(node)
+    if isinstance(node.func, ast.Name) and node.func.id in ("enumerate", "zip", "reversed"):
+        return [text for argument in node.args for text in walked(argument)]
+    if isinstance(node.func, ast.Attribute) and node.func.attr in ("items", "keys", "values"):
+        return given(node.func.value)
+    return []
+
+
+def assigned(node):
+    """The pairs (target, value) of a node that assigns."""
+    if isinstance(node, ast.Assign):
+        pairs = [(target, value) for target in node.targets for value in [node.value, *node.targets]]
+    elif isinstance(node, (ast.AnnAssign, ast.NamedExpr)):
+        pairs = [(node.target, node.value)]
+    else:
+        return []
+    parts = []
+    for target, value in pairs:
+        both_in_parts = isinstance(target, ast.Tuple) and isinstance(value, ast.Tuple)
+        parts.extend(zip(target.elts, value.elts) if both_in_parts else [(target, value)])
+    return parts
+
+
+def same_values(function, texts):
+    """These texts, and all that the rows of a function may let mean the same value, in whatever order they run."""
+    known = set(texts)
+    pairs = [(ast.unparse(target), text) for node in ast.walk(function) for target, value in assigned(node)
+             for text in given(value)]
+    more = True
+    while more:
+        more = {text for pair in pairs if known & set(pair) for text in pair} - known
+        known |= more
+    return known
+
+
+def changed(node):
+    """The texts of what a node changes."""
+    if isinstance(node, ast.Call) and isinstance(node.func, ast.Attribute) and node.func.attr in CHANGING_METHODS:
+        return given(node.func.value)
+    if isinstance(node, ast.AugAssign) and not isinstance(node.target, ast.Subscript):
+        return given(node.target)
+    if isinstance(node, ast.Subscript) and isinstance(node.ctx, (ast.Store, ast.Del)):
+        return given(node.value)
+    return []
+
+
+def rows_that_change_what_is_walked(tree):
+    """The numbers of the rows at which a loop or a comprehension changes what it walks, by whatever name (L23)."""
+    rows = set()
+    for function in [node for node in ast.walk(tree) if isinstance(node, ast.FunctionDef)]:
+        for loop in ast.walk(function):
+            if isinstance(loop, ast.For):
+                heads, body = [loop.iter], loop.body
+            else:
+                heads, body = [part.iter for part in getattr(loop, "generators", [])], [loop]
+            same = same_values(function, [text for head in heads for text in walked(head)])
+            rows.update(node.lineno for part in body for node in ast.walk(part) if same & set(changed(node)))
+    return sorted(rows)
 
 
 class TestLanguage(unittest.TestCase):
@@ -203,6 +281,31 @@ class TestLanguage(unittest.TestCase):
                     lazy = isinstance(node.func, ast.Name) and node.func.id in ("range", "zip", "enumerate", "reversed")
                     view = isinstance(node.func, ast.Attribute) and node.func.attr in ("items", "keys", "values")
                     self.assertFalse(lazy or view, f"{name}:{node.lineno}")
+
+    def test_no_loop_changes_what_it_walks(self):
+        for name, tree in trees():
+            self.assertEqual(rows_that_change_what_is_walked(tree), [], name)
+
+    def test_changes_of_what_a_loop_walks_are_found(self):
+        for head, change in (("found", "longer.append(1)"), ("self.kept", "longer.append(1)"),
+                             ("found if more else places", "longer.append(1)"), ("more or found", "longer.append(1)"),
+                             ("enumerate(found)", "longer.append(1)"), ("found.items()", "longer[0] = 1"),
+                             ("zip(places, found)", "longer[0] += 1"), ("reversed(found)", "longer += [1]"),
+                             ("found", "del found[0]"), ("found", "x = [found.pop() for y in places]"),
+                             ("places", "x = [longer.pop() for y in found]"), ("found[0]", "found[0].append(1)")):
+            rows = ("def f(self, places, more):", "    found = self.kept = []", "    longer = []",
+                    f"    for x in {head}:", f"        {change}", "    found = longer")
+            with self.subTest(head=head, change=change):
+                self.assertEqual(rows_that_change_what_is_walked(ast.parse("\n".join(rows))), [5])
+
+    def test_changes_of_other_lists_in_a_loop_may_stand(self):
+        for head, change in (("list(found)", "longer.append(1)"), ("sorted(found)", "longer[0] = 1"),
+                             ("list(found.items())", "del longer[0]"), ("places", "longer.append(1)"),
+                             ("found", "longer = [1]"), ("found[0]", "found[1] = 1")):
+            rows = ("def f(places):", "    found = []", "    longer = []",
+                    f"    for x in {head}:", f"        {change}", "    found = longer")
+            with self.subTest(head=head, change=change):
+                self.assertEqual(rows_that_change_what_is_walked(ast.parse("\n".join(rows))), [])
 
     def test_sets_stand_where_they_may(self):
         for name, tree in trees():
